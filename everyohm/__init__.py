@@ -1,0 +1,1 @@
+"""Everyohm: nets of switches, and what every world shows."""

@@ -1,0 +1,59 @@
+"""All names of the interface stand where it lists them, with their parameters."""
+
+import importlib
+import inspect
+import unittest
+
+INTERFACE = {
+    "kinds": """is_integer(thing) is_number(thing) is_value(thing) is_known(thing)
+        is_quotient(thing) is_name(thing) is_flat_name(thing) is_lot(thing)""",
+    "values": """joined(one,other) is_above(one,other) flipped(value)
+        joined_all(ones,others) is_above_all(ones,others)""",
+    "valuetexts": "values_text(values) read_values(text)",
+    "quotients": """quotient_of(top,bottom) plus(one,other) minus(one,other)
+        times(one,other) over(one,other) is_less(one,other) total(quotients)
+        least_of(quotients) greatest_of(quotients) volt_reads(quotient)
+        power(base,exponent)""",
+    "quotienttexts": "quotient_text(quotient) read_quotient(text)",
+    "datatexts": "data_text(thing)",
+    "datareadings": "read_data(text)",
+    "words": "words_of(text)",
+    "exprs": "is_expr(thing) worth(expr,names)",
+    "exprtexts": "expr_text(expr)",
+    "exprreading": "read_expr(text)",
+    "bookkinds": """is_book(thing) module_named(book,name) ports_of(book,name)
+        uses_of(book,name)""",
+    "linereading": "read_line(text)",
+    "bookreading": "read_book(text)",
+    "booktexts": "book_text(book)",
+    "netkinds": "is_net(thing) net_fault(thing)",
+    "statekinds": """is_positions(net,thing) is_held(net,thing) is_feeds(net,thing)
+        is_state(net,thing)""",
+    "netnodes": """name_of(net,node) node_of(net,name) size_of(net,tank)
+        switches_at(net,node) switches_by(net,node) gate_tanks(net)""",
+    "groups": "groups_of(net) group_of(net,tank) cone_of(net,watched)",
+    "flattening": "flat(book,top)",
+    "edits": """with_feed(net,name) with_tank(net,name,size) without_tank(net,name)
+        with_switch(net,kind,strength,gate,left,right) without_switch(net,switch)
+        with_strength(net,switch,strength) with_size(net,name,size)""",
+    "carrying": "carried(net,state,other,places)",
+    "nettexts": "net_text(net) state_text(net,state)",
+    "netreadings": "read_net(text) read_state(net,text)",
+    "ranks": "rank_of(net,node) switch_rank(net,switch)",
+}
+
+
+class InterfaceTest(unittest.TestCase):
+    def test_names_and_parameters(self):
+        for file, text in INTERFACE.items():
+            module = importlib.import_module("everyohm." + file)
+            for row in text.split():
+                name, _, rest = row.partition("(")
+                function = getattr(module, name)
+                with self.subTest(file=file, name=name):
+                    self.assertEqual(function.__module__, "everyohm." + file)
+                    parameters = inspect.signature(function).parameters
+                    self.assertEqual(list(parameters), rest[:-1].split(","))
+                    for parameter in parameters.values():
+                        self.assertIs(parameter.default, inspect.Parameter.empty)
+                        self.assertEqual(parameter.kind, parameter.POSITIONAL_OR_KEYWORD)
