@@ -35,7 +35,8 @@ def reached_from(tank, neighbours):
     found = {tank: True}
     waiting = [tank]
     while waiting:
-        for other in neighbours[waiting.pop()]:
+        member = waiting.pop()
+        for other in neighbours[member]:
             if other not in found:
                 found[other] = True
                 waiting.append(other)

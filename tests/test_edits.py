@@ -206,6 +206,21 @@ class CarryingTest(Case):
         self.gives(((2, 0, 2), held), carried, net=net, state=state, other=other, places=(0, 2, -1))
         self.gives(((0, 0, 1), held), carried, net=net, state=state, other=other, places=(1, 0, 2))
 
+    def test_another_kind_with_the_same_gate(self):
+        ends = (0, 3)
+        switches = {kind: (kind, 1, 2) + ends for kind in ("one", "zero")}
+        switches["tie"] = ("tie", 1, -1) + ends
+        nets = {kind: (("low", "high", "a"), (("q", 1),), (switch,)) for kind, switch in switches.items()}
+        for value in (0, 1, 2):
+            held = (0, 1, value, 0)
+            readings = {"one": value, "zero": (1, 0, 2)[value], "tie": 1}
+            for kind, position in (("one", 0), ("one", 1), ("one", 2), ("zero", 0), ("zero", 1), ("zero", 2), ("tie", 1)):
+                for other in nets:
+                    self.gives(
+                        ((position if other == kind else readings[other],), held),
+                        carried, net=nets[kind], state=((position,), held), other=nets[other], places=(0,),
+                    )
+
     def test_nodes_are_known_by_names(self):
         net = (("low", "high", "a"), (("p", 1), ("q", 1)), ())
         other = (("low", "high", "q"), (("a", 1), ("r", 1), ("p", 2)), ())
