@@ -7,23 +7,27 @@ from everyohm.netnodes import is_tank_of
 
 def groups_of(net):
     """Return all groups, by least tank."""
-    neighbours = neighbours_of(net)
-    groups = []
-    grouped = set()
+    return lots_of(neighbours_of(net, net[2]))
+
+
+def lots_of(neighbours):
+    """Return the lots of the tanks that hang together, by least tank."""
+    lots = []
+    taken = set()
     for tank in neighbours:
-        if tank not in grouped:
-            group = reached_from(tank, neighbours)
-            groups.append(group)
-            for member in group:
-                grouped.add(member)
-    return tuple(groups)
+        if tank not in taken:
+            lot = reached_from(tank, neighbours)
+            lots.append(lot)
+            for member in lot:
+                taken.add(member)
+    return tuple(lots)
 
 
-def neighbours_of(net):
-    """Return a dict with the tanks that share a switch with each tank."""
+def neighbours_of(net, switches):
+    """Return a dict with the tanks that share one of the switches with each tank."""
     feeds = len(net[0])
     neighbours = {feeds + place: [] for place in range(len(net[1]))}
-    for _, _, _, left, right in net[2]:
+    for _, _, _, left, right in switches:
         if left >= feeds and right >= feeds:
             neighbours[left].append(right)
             neighbours[right].append(left)
@@ -46,7 +50,7 @@ def reached_from(tank, neighbours):
 def group_of(net, tank):
     """Return the group that has the tank."""
     require(is_tank_of(net, tank), "tank")
-    return reached_from(tank, neighbours_of(net))
+    return reached_from(tank, neighbours_of(net, net[2]))
 
 
 def is_watched(net, thing):
@@ -57,7 +61,7 @@ def is_watched(net, thing):
 def cone_of(net, watched):
     """Return the lot of the tanks of the groups that the watched ones need."""
     require(is_watched(net, watched), "watched")
-    neighbours = neighbours_of(net)
+    neighbours = neighbours_of(net, net[2])
     cone = {}
     waiting = list(watched)
     while waiting:

@@ -25,6 +25,14 @@ def is_switch_of(net, thing):
     return is_between(thing, 0, len(net[2]) - 1)
 
 
+def other_end(net, switch, node):
+    """Return the end of a switch across from a node, or -1 if the node is no end."""
+    _, _, _, left, right = net[2][switch]
+    if node == left:
+        return right
+    return left if node == right else -1
+
+
 def names_of(net):
     """Return the flat names of all nodes, by number."""
     return net[0] + tuple(name for name, _ in net[1])

@@ -1,11 +1,12 @@
 """Working with quotients: pairs (top, bottom) in lowest terms."""
 
-from math import gcd
+from math import gcd, lcm
 
 from everyohm.checks import require
 from everyohm.kinds import is_between, is_integer, is_quotient
 
 NOUGHT = (0, 1)
+ONE = (1, 1)
 GREATEST_EXPONENT = 64
 
 
@@ -66,13 +67,29 @@ def is_quotients(thing):
     return isinstance(thing, tuple) and all(is_quotient(part) for part in thing)
 
 
+def is_part(thing):
+    """Return whether thing is a quotient from nought to one."""
+    return is_quotient(thing) and 0 <= thing[0] <= thing[1]
+
+
+def over_common(quotients):
+    """Return a list of the tops of quotients over one common bottom, and this bottom."""
+    common = 1
+    for _, bottom in quotients:
+        common = lcm(common, bottom)
+    return [top * (common // bottom) for top, bottom in quotients], common
+
+
 def total(quotients):
     """Return the sum of a tuple of quotients."""
     require(is_quotients(quotients), "quotients")
-    result = NOUGHT
-    for quotient in quotients:
-        result = plus(result, quotient)
-    return result
+    return sum_of(quotients)
+
+
+def sum_of(quotients):
+    """Return the sum of what are known to be quotients."""
+    tops, bottom = over_common(quotients)
+    return lowest(sum(tops), bottom)
 
 
 def least_of(quotients):

@@ -1,5 +1,6 @@
 """What positions, held values, feed values and states of a net are."""
 
+from everyohm.checks import require
 from everyohm.kinds import is_values
 
 
@@ -31,3 +32,9 @@ def is_state(net, thing):
     if not isinstance(thing, tuple) or len(thing) != 2:
         return False
     return is_positions(net, thing[0]) and is_held(net, thing[1])
+
+
+def require_view(net, positions, held):
+    """Raise NotUsable unless these are positions and held values of the net."""
+    require(is_positions(net, positions), "positions")
+    require(is_held(net, held), "held")

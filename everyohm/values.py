@@ -11,6 +11,12 @@ def joined(one, other):
     return one if one == other else 2
 
 
+def joined_of(values):
+    """Return the value that all of some values are, and 2 if two of them differ."""
+    first = values[0]
+    return first if all(value == first for value in values) else 2
+
+
 def is_above(one, other):
     """Return whether one is above other: the same, or unknown."""
     require(is_value(one), "one")

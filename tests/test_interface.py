@@ -40,6 +40,24 @@ INTERFACE = {
     "nettexts": "net_text(net) state_text(net,state)",
     "netreadings": "read_net(text) read_state(net,text)",
     "ranks": "rank_of(net,node) switch_rank(net,switch)",
+    "floods": "flood(net,usable,starts,floors)",
+    "tables": "firm(net,positions) may(net,positions,held,value)",
+    "responses": "response(net,positions,held)",
+    "merging": "merged(net,positions,held)",
+    "fillings": "fillings(net,positions,held) by_fillings(net,positions,held)",
+    "roads": """is_road(net,node,thing) road_nodes(net,root,switches) road_ranks(net,root,switches)
+        road_to(net,positions,held,value,node) judge_road(net,positions,held,value,node,paper)""",
+    "worldkinds": """is_world(net,thing) flow_bounds(base,strength) room_bounds(base,size)
+        leak_of(net) spill_of(net) need(net,adrift) slack_after(net,base,adrift)""",
+    "worldfits": "world_fault(net,positions,held,world,slack)",
+    "parts": "parts_of(net,flows)",
+    "meshes": "mesh_of(net,flows) without_node(mesh,node) volt_by(mesh,node,volts)",
+    "volts": "volts_of(net,flows,rooms,charges)",
+    "balances": "are_volts(net,flows,rooms,charges,volts)",
+    "showing": """showing_world(net,positions,held,value,tank,base)
+        two_worlds(net,positions,held,tank,base)""",
+    "ends": """end_worlds(net,positions,held,base) ends_at(net,positions,held,tank,base)
+        end_world(net,positions,held,tank,base,value)""",
 }
 
 

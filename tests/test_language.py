@@ -17,7 +17,7 @@ NODES = (
     ast.Pow, ast.UnaryOp, ast.Not, ast.USub, ast.IfExp, ast.Dict, ast.ListComp, ast.SetComp, ast.DictComp, ast.GeneratorExp,
     ast.comprehension, ast.Compare, ast.Eq, ast.NotEq, ast.Lt, ast.LtE, ast.Gt, ast.GtE, ast.Is, ast.IsNot, ast.In, ast.NotIn,
     ast.Call, ast.keyword, ast.FormattedValue, ast.JoinedStr, ast.Attribute, ast.Subscript, ast.Slice, ast.Name, ast.Load,
-    ast.Store, ast.List, ast.Tuple,
+    ast.Store, ast.List, ast.Tuple, ast.Yield, ast.LShift,
 )
 BUILTINS = set(
     "len range enumerate zip min max sum abs sorted reversed int str bool list tuple dict set isinstance ord repr any all "
@@ -69,6 +69,14 @@ def all_bound(tree):
             yield node.id
         elif isinstance(node, ast.ExceptHandler) and node.name:
             yield node.name
+
+
+def generators(tree):
+    """Return the functions of a file that yield."""
+    return [
+        row for row in tree.body
+        if isinstance(row, ast.FunctionDef) and any(isinstance(node, ast.Yield) for node in ast.walk(row))
+    ]
 
 
 def local_names(tree):
@@ -270,3 +278,31 @@ class LanguageTest(unittest.TestCase):
                 self.assertIn(called, at_once)
                 if called == "join":
                     self.assertIsInstance(parent.func.value, ast.Constant)
+
+    def test_generators(self):
+        trees = [tree for _, tree in self.each()]
+        made = [row.name for tree in trees for row in generators(tree)]
+        self.assertEqual(len(set(made)), len(made))
+        functions = [node.name for tree in trees for node in ast.walk(tree) if isinstance(node, ast.FunctionDef)]
+        for name in made:
+            self.assertEqual(functions.count(name), 1)
+            self.assertNotIn(name, METHODS)
+        for tree in trees:
+            parents = {child: node for node in ast.walk(tree) for child in ast.iter_child_nodes(node)}
+            for node in ast.walk(tree):
+                if isinstance(node, ast.Name) and node.id in made:
+                    call = parents[node]
+                    self.assertTrue(isinstance(call, ast.Call) and call.func is node, node.id)
+                    self.check_iterated(call, parents)
+                if isinstance(node, ast.Yield):
+                    self.assertIsInstance(parents[node], ast.Expr)
+
+    def check_iterated(self, call, parents):
+        """Check that a generator's call is gone through at once, beside plain arguments."""
+        self.assertTrue(all(isinstance(one, (ast.Name, ast.Attribute, ast.Constant)) for one in call.args))
+        parent = parents[call]
+        if isinstance(parent, (ast.For, ast.comprehension)):
+            self.assertIs(parent.iter, call)
+            self.assertNotIsInstance(parents[parent], ast.GeneratorExp)
+        else:
+            self.assertIn(parent.func.id, ("list", "tuple", "dict", "sorted", "sum", "min", "max", "any", "all"))

@@ -9,6 +9,7 @@ from everyohm.netnodes import gate_tanks, name_of, node_of, size_of, switches_at
 from everyohm.ranks import rank_of, switch_rank
 from helpers import BARE, CROSS, DOUBLE, FIGHT, NETS, PAIR, STORE, TURNER, Case, junk_but
 from nets import some_net
+from slowranks import slow_lots
 
 
 def numbers_but(least, many):
@@ -84,17 +85,7 @@ class NetNodesTest(Case):
 
 
 def slow_groups(net):
-    """Return the groups, by joining sets as long as a switch joins two."""
-    feeds = len(net[0])
-    sets = [{feeds + at} for at in range(len(net[1]))]
-    for _, _, _, left, right in net[2]:
-        if left >= feeds and right >= feeds:
-            one = next(part for part in sets if left in part)
-            other = next(part for part in sets if right in part)
-            if one is not other:
-                one |= other
-                sets.remove(other)
-    return tuple(sorted(tuple(sorted(part)) for part in sets))
+    return slow_lots(net, [switch[3:] for switch in net[2]])
 
 
 def is_closed(net, groups):
