@@ -4,8 +4,8 @@ from everyohm.checks import require
 from everyohm.kinds import is_between
 from everyohm.netkinds import is_net
 from everyohm.netnodes import names_of
+from everyohm.starts import readings_by
 from everyohm.statekinds import is_state
-from everyohm.values import flipped
 
 
 def carried(net, state, other, places):
@@ -16,7 +16,7 @@ def carried(net, state, other, places):
     positions, held = state
     values = dict(zip(names_of(net), held))
     other_held = tuple(values.get(name, 2) for name in names_of(other))
-    other_positions = [reading_of(switch, other_held) for switch in other[2]]
+    other_positions = list(readings_by(other, other_held))
     for switch, place in enumerate(places):
         if place >= 0 and are_of_a_kind(net, switch, other, place):
             other_positions[place] = positions[switch]
@@ -31,14 +31,6 @@ def are_places(thing, many, many_others):
         return False
     kept = [place for place in thing if place >= 0]
     return len(set(kept)) == len(kept)
-
-
-def reading_of(switch, held):
-    """Return the reading of a switch by held values."""
-    kind, gate = switch[0], switch[2]
-    if kind == "tie":
-        return 1
-    return held[gate] if kind == "one" else flipped(held[gate])
 
 
 def are_of_a_kind(net, switch, other, place):

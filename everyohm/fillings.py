@@ -28,6 +28,5 @@ def filled_in(values, places, number):
 
 def by_fillings(net, positions, held):
     """Return the joined values of all fillings' heaps at each node."""
-    require_view(net, positions, held)
     rows = [merged_values(net, closed, known) for closed, known in fillings(net, positions, held)]
     return tuple(joined_of([row[node] for row in rows]) for node in range(len(held)))

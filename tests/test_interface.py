@@ -58,6 +58,23 @@ INTERFACE = {
         two_worlds(net,positions,held,tank,base)""",
     "ends": """end_worlds(net,positions,held,base) ends_at(net,positions,held,tank,base)
         end_world(net,positions,held,tank,base,value)""",
+    "leakrows": "row_net(many,leaks) row_world(many,leaks,base)",
+    "firmpapers": "firm_paper(net,positions) judge_firm(net,positions,paper)",
+    "maypapers": """may_paper(net,positions,held,value)
+        judge_may(net,positions,held,value,ranks,paper)""",
+    "tablepapers": "table_paper(net,positions,held)",
+    "tablejudge": "judge_tables(net,positions,held,paper)",
+    "pairpapers": "pair_paper(net,positions,held,tank,base)",
+    "pairjudge": "judge_pair(net,positions,held,tank,paper)",
+    "starts": """readings(net,held) unknown_start(net) is_resting(net,state)
+        is_known_state(net,state) is_even(net,state)""",
+    "raising": "can_raise(net,state) raised(net,state,item)",
+    "falling": "can_fall(net,state) fallen(net,state,item)",
+    "turning": """begun(net,state,feeds) spread(net,state,feeds) chain(net,state)
+        turn(net,state,feeds) after(net,state,feeds) after_all(net,state,sequence)""",
+    "flickers": """flickers(net,state,feeds) shown_tanks(net,state,feeds)
+        is_single(net,state,feeds)""",
+    "mirrors": "mirrored(net) mirrored_state(net,state) mirrored_feeds(net,feeds)",
 }
 
 
