@@ -3,7 +3,7 @@
 from everyohm.checks import require
 from everyohm.kinds import is_known
 from everyohm.netnodes import is_tank_of
-from everyohm.parts import parts_by
+from everyohm.parts import part_with
 from everyohm.quotients import greatest_of, least_of
 from everyohm.showing import charges_with
 from everyohm.statekinds import require_view
@@ -90,5 +90,5 @@ def end_world(net, positions, held, tank, base, value):
 def volt_in(net, world, tank):
     """Return the volt of a tank in a world."""
     _, flows, rooms, charges = world
-    tanks, feeds = [part for part in parts_by(net, flows) if tank in part[0]][0]
+    tanks, feeds = part_with(net, flows, tank)
     return part_volts(net, flows, rooms, charges, tanks, feeds)[tanks.index(tank)]

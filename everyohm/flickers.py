@@ -36,5 +36,10 @@ def is_single(net, state, feeds):
     """Return whether no group has two shown tanks in the turn from a known state."""
     require(is_state(net, state) and has_known_gates(net, state), "state")
     require(is_feeds(net, feeds), "feeds")
+    return is_single_by(net, state, feeds)
+
+
+def is_single_by(net, state, feeds):
+    """Return what is_single returns, for arguments that are known to fit."""
     shown = shown_by(net, state, feeds)
     return all(len([tank for tank in group if tank in shown]) <= 1 for group in groups_of(net))

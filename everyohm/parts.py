@@ -18,6 +18,11 @@ def parts_by(net, flows):
     return tuple((tanks, feeds_at(net, flowing, tanks)) for tanks in lots)
 
 
+def part_with(net, flows, tank):
+    """Return the part that has a tank."""
+    return [part for part in parts_by(net, flows) if tank in part[0]][0]
+
+
 def feeds_at(net, flowing, tanks):
     """Return the lot of the feeds from which a flow leads to one of the tanks."""
     feeds = len(net[0])

@@ -21,9 +21,12 @@ def readings_by(net, held):
 def reading_of(switch, held):
     """Return the reading of a switch by held values."""
     kind, gate = switch[0], switch[2]
-    if kind == "tie":
-        return 1
-    return held[gate] if kind == "one" else flipped(held[gate])
+    return 1 if kind == "tie" else reading_by_gate(kind, held[gate])
+
+
+def reading_by_gate(kind, value):
+    """Return the reading of a switch that is no tie by the value of its gate."""
+    return value if kind == "one" else flipped(value)
 
 
 def unknown_start(net):

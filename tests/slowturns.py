@@ -2,7 +2,9 @@
 
 import itertools
 
-from slowranks import slow_response, tanks_of
+from bads import is_int
+from slowpapers import slow_tables_judge
+from slowranks import slow_lots, slow_response, tanks_of
 
 
 def slow_readings(net, held):
@@ -79,3 +81,61 @@ def states_between(least, most):
             rows.append((one, 2) if one != 2 else (2,))
     many = len(least[0])
     return [(row[:many], row[many:]) for row in itertools.product(*rows)]
+
+
+def slow_turn_judge(net, state, feeds, paper):
+    """Return what judge_turn is to return."""
+    first = len(net[0])
+    if not isinstance(paper, tuple) or not paper:
+        return None
+    for at, pair in enumerate(paper):
+        if not isinstance(pair, tuple) or len(pair) != 2 or not is_slow_state(net, pair[0], feeds):
+            return None
+        (positions, held), tables = pair
+        if at == 0:
+            by = held
+            if not above((positions, held[first:]), (state[0], state[1][first:])):
+                return None
+            if not above((positions,), (slow_readings(net, held),)):
+                return None
+        else:
+            by = paper[at - 1][0][1]
+            if positions != slow_readings(net, by):
+                return None
+        told = slow_tables_judge(net, positions, by, tables)
+        if told is None or not above((held[first:],), (told[first:],)):
+            return None
+    return paper[-1][0], len(paper) - 1
+
+
+def is_slow_state(net, thing, feeds):
+    """Return whether thing is a state with these feed values."""
+    if not isinstance(thing, tuple) or len(thing) != 2 or not all(isinstance(row, tuple) for row in thing):
+        return False
+    positions, held = thing
+    if not all(is_int(value) and 0 <= value <= 2 for value in positions + held):
+        return False
+    if len(positions) != len(net[2]) or len(held) != len(net[0]) + len(net[1]) or held[:len(feeds)] != feeds:
+        return False
+    return all(switch[0] != "tie" or position == 1 for switch, position in zip(net[2], positions))
+
+
+def slow_reached(net, state, feeds):
+    """Return the fewest groups of all sets of groups that are closed, by trying all sets."""
+    groups = slow_lots(net, [switch[3:] for switch in net[2]])
+    if state != (slow_readings(net, state[1]), slow_response(net, *state)):
+        return groups
+    changed = {feed for feed, value in enumerate(feeds) if value != state[1][feed]}
+    best = groups
+    for many in range(len(groups) + 1):
+        for chosen in itertools.combinations(groups, many):
+            if len(chosen) < len(best) and all(group in chosen for group in groups if is_near(net, group, changed, chosen)):
+                best = chosen
+    return best
+
+
+def is_near(net, group, changed, chosen):
+    """Return whether a switch of a group has a changed feed as gate or end, or its gate in a chosen group."""
+    return any(
+        set(switch[3:]) & set(group) and (changed & set(switch[2:]) or any(switch[2] in other for other in chosen))
+        for switch in net[2])

@@ -17,7 +17,7 @@ NODES = (
     ast.Pow, ast.UnaryOp, ast.Not, ast.USub, ast.IfExp, ast.Dict, ast.ListComp, ast.SetComp, ast.DictComp, ast.GeneratorExp,
     ast.comprehension, ast.Compare, ast.Eq, ast.NotEq, ast.Lt, ast.LtE, ast.Gt, ast.GtE, ast.Is, ast.IsNot, ast.In, ast.NotIn,
     ast.Call, ast.keyword, ast.FormattedValue, ast.JoinedStr, ast.Attribute, ast.Subscript, ast.Slice, ast.Name, ast.Load,
-    ast.Store, ast.List, ast.Tuple, ast.Yield, ast.LShift,
+    ast.Store, ast.List, ast.Tuple, ast.Yield, ast.LShift, ast.Starred,
 )
 BUILTINS = set(
     "len range enumerate zip min max sum abs sorted reversed int str bool list tuple dict set isinstance ord repr any all "
