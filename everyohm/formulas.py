@@ -18,9 +18,7 @@ def is_formula(thing):
 
 def is_formula_within(thing, depth):
     """Return whether thing is a formula at most depth deep."""
-    if depth == 0 or not isinstance(thing, tuple) or len(thing) < 2:
-        return False
-    if not isinstance(thing[0], str):
+    if depth == 0 or not isinstance(thing, tuple):
         return False
     if len(thing) == 3:
         return thing[0] in PAIR_WORDS and all(is_formula_within(part, depth - 1) for part in thing[1:])

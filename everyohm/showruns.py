@@ -71,16 +71,18 @@ def start_for(net, state, plans):
     # Each plan makes one settling, which may be adrift.
     base = needed_base(net, max(1, len(plans)))
     positions, held = state
-    strong = [switch for plan in plans for switch in plan.road]
-    closed = tuple(
-        (bounds_of(base, switch[1])[place in strong], 1) for place, switch in enumerate(net[2])
-    )
     roots = [plan.root for plan in plans]
-    rooms = tuple(
-        (bounds_of(base, size)[tank in roots], 1) for tank, (_, size) in enumerate(net[1], start=len(net[0]))
-    )
+    strong = [switch for plan in plans for switch in plan.road]
+    closed = tuple(bound(base, switch[1], place in strong) for place, switch in enumerate(net[2]))
+    rooms = tuple(bound(base, size, tank in roots) for tank, (_, size) in enumerate(net[1], start=len(net[0])))
     flows = tuple(flow if position == 1 else NOUGHT for flow, position in zip(closed, positions))
     return (base, closed, rooms, start_volts(held, plans), flows)
+
+
+def bound(base, order, is_strong):
+    """Return the greatest quotient within the bounds of a strength or a size, or the least."""
+    least, greatest = bounds_of(base, order)
+    return (greatest if is_strong else least, 1)
 
 
 def start_volts(held, plans):

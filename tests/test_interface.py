@@ -2,8 +2,10 @@
 
 import importlib
 import inspect
+import pathlib
 import unittest
 
+DOC = pathlib.Path(__file__).resolve().parent.parent.parent / "shared" / "DOC.md"
 INTERFACE = {
     "kinds": """is_integer(thing) is_number(thing) is_value(thing) is_known(thing)
         is_quotient(thing) is_name(thing) is_flat_name(thing) is_lot(thing)""",
@@ -75,20 +77,88 @@ INTERFACE = {
     "flickers": """flickers(net,state,feeds) shown_tanks(net,state,feeds)
         is_single(net,state,feeds)""",
     "mirrors": "mirrored(net) mirrored_state(net,state) mirrored_feeds(net,feeds)",
+    "turnpapers": "turn_paper(net,state,feeds)",
+    "turnjudge": "judge_turn(net,state,feeds,paper)",
+    "reaching": "reached(net,state,feeds)",
+    "moves": "reason_of(net,base,move) whole_settling(net,tank)",
+    "labfits": "lab_fits(lab,state,slack) start_fits(net,start,state,slack)",
+    "labrounds": "whole_round(net) whole_turn(net,volts,rounds)",
+    "runs": "run_of(net,run)",
+    "runjudge": "judge_run(net,state,feeds,tank,paper)",
+    "showruns": "shown_run(net,state,feeds)",
+    "formulas": "is_formula(thing) formula_worth(formula,known)",
+    "formulatexts": "read_formula(text) formula_text(formula)",
+    "benchreading": "is_bench(thing) read_bench(text)",
+    "benchtexts": "bench_text(bench)",
+    "codes": "code_of(net,bench) notes_of(bench)",
+    "searching": """first_of(net,bench) next_of(net,bench,place,configuration)
+        run_bench(net,bench,limit) replay(net,bench,choices)""",
+    "benchpapers": "bench_paper(net,bench,limit) judge_bench(net,bench,paper)",
+    "alikes": "alike(net,other,names,wide,limit)",
+    "alikejudge": "judge_alike(net,other,names,wide,paper)",
+    "rulekinds": "is_rule(net,watched,thing)",
+    "ruleslist": "rules_of(net,watched)",
+    "doing": "rule_done(net,watched,rule)",
+    "shortening": """shorten(net,watched) judge_short(net,watched,paper)
+        seen_in(net,watched,rules) short_state(net,watched,rules,state)""",
+    "desklines": "read_order(text) order_line(order)",
+    "desktexts": "saved(desk) restored(text)",
+}
+# Each class with the parameters of its objects, then its methods with theirs.
+CLASSES = {
+    "engines": "Engine(net,state) turn(feeds) change(net,places) state() net() worked()",
+    "labs": """Lab(net,base,closed,rooms,volts,flows) go(move) go_all(moves) volts() flows()
+        volt(node) reads(node) settlings() adrift() rounds() start() net()""",
+    "desks": "Desk() say(text) net() state() log()",
 }
 
 
+def parts_of_row(row):
+    """Return the name in a row, and the names of the parameters behind it."""
+    name, _, rest = row.partition("(")
+    return name, [word for word in rest[:-1].split(",") if word]
+
+
 class InterfaceTest(unittest.TestCase):
-    def test_names_and_parameters(self):
+    def check_parameters(self, function, names):
+        parameters = inspect.signature(function).parameters
+        self.assertEqual(list(parameters), names)
+        for parameter in parameters.values():
+            self.assertIs(parameter.default, inspect.Parameter.empty)
+            self.assertEqual(parameter.kind, parameter.POSITIONAL_OR_KEYWORD)
+
+    def test_functions(self):
         for file, text in INTERFACE.items():
             module = importlib.import_module("everyohm." + file)
             for row in text.split():
-                name, _, rest = row.partition("(")
-                function = getattr(module, name)
+                name, names = parts_of_row(row)
                 with self.subTest(file=file, name=name):
+                    function = getattr(module, name)
                     self.assertEqual(function.__module__, "everyohm." + file)
-                    parameters = inspect.signature(function).parameters
-                    self.assertEqual(list(parameters), rest[:-1].split(","))
-                    for parameter in parameters.values():
-                        self.assertIs(parameter.default, inspect.Parameter.empty)
-                        self.assertEqual(parameter.kind, parameter.POSITIONAL_OR_KEYWORD)
+                    self.check_parameters(function, names)
+
+    def test_classes(self):
+        for file, text in CLASSES.items():
+            rows = [parts_of_row(row) for row in text.split()]
+            made = getattr(importlib.import_module("everyohm." + file), rows[0][0])
+            self.assertEqual(made.__module__, "everyohm." + file)
+            self.check_parameters(made, rows[0][1])
+            for name, names in rows[1:]:
+                with self.subTest(file=file, name=name):
+                    # A method of the interface stands in the class itself.
+                    self.assertIn(name, vars(made))
+                    self.check_parameters(vars(made)[name], ["self"] + names)
+
+    def test_against_the_document(self):
+        """Each heading of the document that names functions of a file is in the tables above."""
+        if not DOC.exists():
+            self.skipTest("the document is not here")
+        listed = {file: set() for file in INTERFACE}
+        for line in DOC.read_text(encoding="utf-8").split("\n"):
+            if line.startswith("### ") and "(everyohm/" in line:
+                text, _, file = line[4:].rpartition(" (everyohm/")
+                listed.setdefault(file.partition(".")[0], set()).update(
+                    name for name in text.replace("class ", "").replace(", ", ",").replace("),", ") ").split())
+        for file, rows in listed.items():
+            wanted = set(INTERFACE[file].split()) if file in INTERFACE else {CLASSES[file].split()[0]}
+            self.assertEqual(rows, wanted, file)

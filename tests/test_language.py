@@ -124,6 +124,8 @@ class LanguageTest(unittest.TestCase):
                     self.assertIsNone(node.args.vararg or node.args.kwarg)
                 if isinstance(node, ast.Constant):
                     self.assertNotIsInstance(node.value, (float, complex, bytes))
+                if isinstance(node, ast.Starred):
+                    self.assertIsInstance(node.value, ast.Name)
                 if isinstance(node, ast.BinOp) and isinstance(node.op, ast.Pow):
                     self.assertIsInstance(node.right, ast.Constant)
                     self.assertLessEqual(node.right.value, 64)
@@ -225,6 +227,8 @@ class LanguageTest(unittest.TestCase):
                     node.attr for node in ast.walk(row) if isinstance(node, ast.Attribute) and isinstance(node.ctx, ast.Store)
                 }
                 self.assertFalse(set(methods[row.name]) & stored[row.name])
+                # Sets are kept in variables, so no own object may have their methods.
+                self.assertFalse({"add", "discard", "sort"} & (set(methods[row.name]) | stored[row.name]))
                 for one in row.body:
                     self.assertTrue(isinstance(one, ast.FunctionDef) or ast.get_docstring(row) is not None)
 

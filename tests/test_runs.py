@@ -107,6 +107,14 @@ class JudgeRunTest(Case):
         self.gives(True, judge_run, net=TURNER, state=state, feeds=(0, 1, 0), tank=3, paper=(start, (("turn", (NOUGHT, ONE, NOUGHT)), settle)))
         self.gives(False, judge_run, net=TURNER, state=state, feeds=(0, 1, 0), tank=3, paper=(start, (settle, ("turn", (NOUGHT, ONE, NOUGHT)))))
 
+    def test_a_run_without_a_turn(self):
+        """All feeds fit and the tank reads both, but no turn has begun."""
+        question = {"net": TURNER, "state": ((1, 1), (0, 1, 0, 1)), "feeds": (0, 1, 0), "tank": 3}
+        start = replaced(START, 4, ((16, 1), (256, 1)))
+        moves = (("settle", 3, (NOUGHT,)), ("settle", 3, (ONE,)))
+        self.gives(False, judge_run, **question, paper=(start, moves))
+        self.gives(True, judge_run, **question, paper=(start, (("turn", (NOUGHT, ONE, NOUGHT)),) + moves))
+
     def test_an_unknown_state(self):
         start = (4, ((16, 1), (256, 1)), ((16, 1),), (NOUGHT, ONE, HALF, HALF), ((16, 1), (5, 1)))
         moves = (("turn", (NOUGHT, ONE, NOUGHT)), ("read", 1, NOUGHT), ("settle", 3, (ONE,)), ("feed", 2, ONE), ("read", 1, NOUGHT), ("settle", 3, (ONE,)))
